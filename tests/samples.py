@@ -1,0 +1,48 @@
+"""Nets that several tests use, and random ones; a seed makes these the same each time."""
+
+import random
+
+FORK = (("a", "d", "s"), (("p", "s", "a", 3, 3), ("q", "a", "d", 3, 3), ("r", "s", "d", 4, 1)))
+CYCLE = (("i", "j", "s", "t"), (("a", "i", "j", 1, 1), ("b", "j", "i", 1, 1), ("c", "j", "t", 1, 1),
+                                ("d", "s", "t", 1, 1)))
+DOUBLE = (("a", "b"), (("p", "a", "b", 2, 2), ("q", "a", "b", 5, 1)))
+TWO_GROUPS = (("a", "b", "c", "d", "e"), (("p", "c", "a", 1, 1), ("q", "b", "e", 2, 2)))
+BARE = (("a", "b"), ())
+HUGE = 10 ** 40
+
+
+def listed(thing):
+    """The same with lists for tuples, at any depth."""
+    if isinstance(thing, tuple):
+        return [listed(part) for part in thing]
+    return thing
+
+
+def random_net(source, most_workers, most_queues, most_room):
+    workers = tuple("abcdefgh"[:source.randint(2, most_workers)])
+    queues = []
+    for place in range(source.randint(0, most_queues)):
+        start, end = source.sample(workers, 2)
+        room = source.randint(1, most_room)
+        queues.append((f"q{place}", start, end, room, source.randint(1, room)))
+    return (workers, tuple(queues))
+
+
+def random_drops(source, net, greatest):
+    return tuple([(queue[0], number) for queue in net[1] for number in range(1, greatest + 1)
+                  if source.random() < 0.6])
+
+
+def random_deaths(source, net, greatest):
+    return tuple([(worker, source.randint(0, greatest)) for worker in net[0] if source.random() < 0.2])
+
+
+def random_cases(seed, many, with_deaths):
+    """Triples (net, drops, deaths) of small nets."""
+    source = random.Random(seed)
+    found = []
+    for _ in range(many):
+        net = random_net(source, 4, 5, 3)
+        deaths = random_deaths(source, net, 4) if with_deaths else ()
+        found.append((net, random_drops(source, net, 4), deaths))
+    return found

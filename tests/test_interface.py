@@ -1,0 +1,51 @@
+"""The interface: names, arguments, and the files in which things are defined."""
+
+import inspect
+import unittest
+
+from joinlags import nets, runs
+
+FUNCTIONS = {
+    nets: {"is_net": "(thing)", "is_counts": "(net, thing)", "is_drops": "(net, thing)",
+           "incoming": "(net, worker)", "outgoing": "(net, worker)", "groups": "(net)", "idle": "(net)",
+           "rings": "(net)", "slack": "(net)"},
+    runs: {"held": "(net, drops, *, deaths=())", "closes": "(net, drops, ends)",
+           "stands": "(net, drops, counts)", "order_to": "(net, drops, counts)"},
+}
+CLASSES = {
+    nets.Way: {"__init__": "(self, net, start, queues)", "steps": "(self)", "workers": "(self)",
+               "cost": "(self)", "is_ring": "(self)", "is_bad": "(self)", "__len__": "(self)",
+               "__contains__": "(self, queue)", "__add__": "(self, other)", "__neg__": "(self)",
+               "__mul__": "(self, many)", "__eq__": "(self, other)"},
+    runs.Run: {"__init__": "(self, net, drops, *, deaths=())", "counts": "(self)",
+               "passed": "(self, worker)", "messages": "(self, queue)", "__len__": "(self)",
+               "__iadd__": "(self, worker)", "__contains__": "(self, worker)", "ready": "(self)",
+               "settle": "(self, many)", "back": "(self)", "twin": "(self)", "__eq__": "(self, other)"},
+}
+
+
+class InterfaceTest(unittest.TestCase):
+
+    def test_functions(self):
+        for module, functions in FUNCTIONS.items():
+            for name, arguments in functions.items():
+                found = getattr(module, name)
+                self.assertTrue(inspect.isfunction(found), name)
+                self.assertEqual(found.__module__, module.__name__, name)
+                self.assertEqual(str(inspect.signature(found)), arguments, name)
+
+    def test_classes(self):
+        self.assertEqual(nets.Way.__module__, "joinlags.nets")
+        self.assertEqual(runs.Run.__module__, "joinlags.runs")
+        for found, methods in CLASSES.items():
+            for name, arguments in methods.items():
+                self.assertIn(name, vars(found))
+                self.assertEqual(str(inspect.signature(vars(found)[name])), arguments, name)
+
+    def test_ways_have_no_in_place_signs(self):
+        for name in ("__iadd__", "__imul__"):
+            self.assertFalse(hasattr(nets.Way, name))
+
+
+if __name__ == "__main__":
+    unittest.main()
