@@ -143,7 +143,7 @@ class Way:
         """Whether the steps are a RING."""
         if self._workers[0] != self._workers[-1]:
             return False
-        # The first worker stands twice in a ring; with no step or one this cannot add up.
+        # The first worker stands twice in a ring, so a way of no step has one too many.
         many = len(self._steps)
         return len(set(self._workers)) == many and len(set(self._queues)) == many
 
