@@ -103,6 +103,49 @@ def step_over(queue, place):
     return None
 
 
+def arcs_of(net, scale, toll):
+    """An arc (from, to, scale * cost - toll, step) for each step that can be taken in the net."""
+    arcs = []
+    for queue in net[1]:
+        for place in (queue[1], queue[2]):
+            step, other, cost = step_over(queue, place)
+            arcs.append((place, other, scale * cost - toll, step))
+    return arcs
+
+
+def least_sums(arcs, first):
+    """The least sum of weights with which each node is come to over arcs (from, to, weight, ..).
+
+    first is a dict from the nodes that rows of arcs may begin at to the sums that they begin with.
+    Returns a dict from node to sum; a dict from node to the last arc on the way; and a node
+    behind a ring of arcs with a sum below 0, or None if there is no such ring.
+    """
+    sums = {node: first[node] for node in first}
+    last = {}
+    # A row of arcs that meets no node twice is done within one round less.
+    for _ in range(len(set(list(first) + [arc[1] for arc in arcs]))):
+        lowered = None
+        for arc in arcs:
+            if arc[0] in sums:
+                total = sums[arc[0]] + arc[2]
+                if arc[1] not in sums or total < sums[arc[1]]:
+                    sums[arc[1]] = total
+                    last[arc[1]] = arc
+                    lowered = arc[1]
+        if lowered is None:
+            return sums, last, None
+    return sums, last, lowered
+
+
+def arcs_to(last, node):
+    """The arcs that lead to the node, in order; last is what least_sums tells."""
+    found = []
+    while node in last:
+        found.append(last[node])
+        node = last[node][0]
+    return found[::-1]
+
+
 class Way:
     """A row of steps over the queues of a net, from worker to worker. It does not change."""
 
@@ -113,7 +156,7 @@ class Way:
         known = {queue[0]: queue for queue in self._net[1]}
         steps = []
         workers = [start]
-        cost = 0
+        costs = []
         for place, name in enumerate(self._queues):
             if name not in known:
                 raise NoQueue(name)
@@ -122,10 +165,10 @@ class Way:
                 raise NoStep(place)
             steps.append(move[0])
             workers.append(move[1])
-            cost = cost + move[2]
+            costs.append(move[2])
         self._steps = tuple(steps)
         self._workers = tuple(workers)
-        self._cost = cost
+        self._costs = tuple(costs)
 
     def steps(self):
         """The tuple of the steps, pairs (queue, "along") or (queue, "against")."""
@@ -137,7 +180,11 @@ class Way:
 
     def cost(self):
         """The rooms of the queues gone along less the (notice - 1) of those gone against."""
-        return self._cost
+        return sum(self._costs)
+
+    def costs(self):
+        """The tuple of the costs of the steps."""
+        return self._costs
 
     def is_ring(self):
         """Whether the steps are a RING."""
@@ -149,7 +196,7 @@ class Way:
 
     def is_bad(self):
         """Whether the steps are a bad RING."""
-        return self.is_ring() and self._cost <= 0
+        return self.is_ring() and self.cost() <= 0
 
     def __len__(self):
         return len(self._steps)

@@ -4,9 +4,11 @@ LETTERS = "abcdefghijklmnopqrstuvwxyz"
 SIGNS = "abcdefghijklmnopqrstuvwxyz0123456789."
 
 
-def is_number(thing, least):
-    """Whether thing is a number, and not below the least."""
-    return isinstance(thing, int) and not isinstance(thing, bool) and thing >= least
+def is_number(thing, least=None):
+    """Whether thing is a number, and not below the least, if there is one."""
+    if not isinstance(thing, int) or isinstance(thing, bool):
+        return False
+    return least is None or thing >= least
 
 
 def is_name(thing):

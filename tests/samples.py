@@ -9,6 +9,8 @@ DOUBLE = (("a", "b"), (("p", "a", "b", 2, 2), ("q", "a", "b", 5, 1)))
 TWO_GROUPS = (("a", "b", "c", "d", "e"), (("p", "c", "a", 1, 1), ("q", "b", "e", 2, 2)))
 BARE = (("a", "b"), ())
 HUGE = 10 ** 40
+WIDE = (FORK[0], FORK[1][:2] + (("r", "s", "d", 5, 1),))
+ALONE = (("z",), ())
 
 
 def listed(thing):
@@ -26,6 +28,54 @@ def random_net(source, most_workers, most_queues, most_room):
         room = source.randint(1, most_room)
         queues.append((f"q{place}", start, end, room, source.randint(1, room)))
     return (workers, tuple(queues))
+
+
+def small_nets(source, many, most_workers, most_queues, most_room):
+    """Random nets, each as it comes and with all queues from lesser to greater workers, so without cycles."""
+    found = []
+    for _ in range(many):
+        workers, queues = random_net(source, most_workers, most_queues, most_room)
+        found.append((workers, queues))
+        found.append((workers, tuple((queue[0], *sorted(queue[1:3]), *queue[3:]) for queue in queues)))
+    return found
+
+
+def many_workers(many):
+    return tuple(f"w{place:02}" for place in range(many))
+
+
+def wild_net(source, many, queues, most_room):
+    """A net of so many workers and queues; nearly always somebody can be held in it."""
+    workers = many_workers(many)
+    rows = []
+    for place in range(queues):
+        room = source.randint(1, most_room)
+        rows.append((f"q{place:02}",) + tuple(source.sample(workers, 2)) + (room, source.randint(1, room)))
+    return (workers, tuple(rows))
+
+
+def sloped_net(source, many, queues, most_room):
+    """A net without directed cycles; notices are small against rooms, so in some nobody can be held."""
+    workers, rows = wild_net(source, many, queues, most_room)
+    rows = tuple((name, *sorted((start, end)), room, source.randint(1, max(1, room // 4)))
+                 for name, start, end, room, _ in rows)
+    return (workers, rows)
+
+
+def calm_net(source, many, queues, most_lag):
+    """A net in which nobody can be held, though rooms and notices are as near to it as the lags let them be."""
+    workers = many_workers(many)
+    lag = {worker: source.randrange(most_lag) * many + place for place, worker in enumerate(workers)}
+    rows = []
+    for place in range(queues):
+        end, start = sorted(source.sample(workers, 2), key=lag.get)
+        gap = lag[start] - lag[end]
+        rows.append((f"q{place:02}", start, end, gap // many + 1, (gap - 1) // many + 1))
+    return (workers, tuple(rows))
+
+
+def step_cost(queue, side):
+    return queue[3] if side == "along" else 1 - queue[4]
 
 
 def random_drops(source, net, greatest):

@@ -2,10 +2,10 @@
 
 import unittest
 
-from joinlags import errors, nets, runs
+from joinlags import early, errors, judge, nets, reach, runs, tune
 from examples import check_examples
 
-NAMES = {**vars(errors), **vars(nets), **vars(runs)}
+NAMES = {**vars(errors), **vars(nets), **vars(runs), **vars(reach), **vars(judge), **vars(early), **vars(tune)}
 
 NETS = r'''
     >>> fork = (("a", "d", "s"), (("p", "s", "a", 3, 3), ("q", "a", "d", 3, 3), ("r", "s", "d", 4, 1)))
@@ -58,6 +58,89 @@ RUNS = r'''
     (True, False, ('s', 'a'))
 '''
 
+REACH = r'''
+    >>> net = (("a", "d", "s"), (("p", "s", "a", 2, 2), ("q", "a", "d", 1, 1), ("r", "s", "d", 3, 2)))
+    >>> can_stand(net, (1, 0, 6)), can_stand(net, (2, 0, 6)), len(way_to(net, (1, 0, 6))[0]), way_to(net, (0, 1, 1))
+    (True, False, 6, None)
+    >>> leads_over(net, "d"), leads_over(net, "a"), leads_over((("i", "j", "s", "t"), (("a", "s", "i", 1, 1), ("b", "i", "j", 1, 1), ("c", "j", "i", 1, 1), ("d", "s", "t", 3, 3))), "t")
+    ((1, 0, 6), (0, 0, 5), (0, 0, 1, 0))
+    >>> most_messages(net), most_messages((("a", "d", "s"), (("p", "s", "a", 1, 1), ("q", "a", "d", 1, 1), ("r", "s", "d", 9, 1))))
+    (6, 4)
+    >>> lead_price(net, "s", "d", 3), lead_price(net, "s", "d", 4), lead_price(net, "s", "d", 6), lead_price(net, "s", "d", 7), lead_price(net, "d", "s", -4)
+    (0, 2, 6, None, 2)
+    >>> least = lead_counts(net, "s", "d", 5)
+    >>> least[2] - least[1], len(way_to(net, least)[0]), lead_price(net, "s", "d", 5), lead_counts(net, "s", "d", 7), lead_flow(net, "d", "s", 1)
+    (5, 4, 4, None, None)
+    >>> most = most_counts(net)
+    >>> min(2, most[2] - most[0]) + min(1, most[0] - most[1]) + min(3, most[2] - most[1])
+    6
+'''
+
+JUDGE = r'''
+    >>> fork = (("a", "d", "s"), (("p", "s", "a", 3, 3), ("q", "a", "d", 3, 3), ("r", "s", "d", 4, 1)))
+    >>> ring = (("q", "against"), ("p", "against"), ("r", "along"))
+    >>> never_held(fork), lags(fork), is_bad_ring(fork, ring), is_bad_ring(fork, ring[1:]), fewest_drops(fork), len(holding(fork)), least_way(fork, "s", "d")
+    (False, None, True, False, 4, 4, None)
+    >>> sprung(fork, ring, 0)
+    ((('p', 3), ('p', 4), ('q', 1), ('q', 2)), (2, 0, 4))
+    >>> sprung(fork, ring, 5)[1]
+    (7, 5, 9)
+    >>> wide = (("a", "d", "s"), (("p", "s", "a", 3, 3), ("q", "a", "d", 3, 3), ("r", "s", "d", 5, 1)))
+    >>> never_held(wide), shows_never(wide, (7, 0, 14)), shows_never(wide, [7, 0, 14]), lags_in(wide, 2), least_parts(wide), bad_ring(wide)
+    (True, True, False, None, 3, None)
+    >>> lag_room(wide, "s", "d"), lag_room(wide, "d", "s"), least_way(wide, "d", "s")
+    ((4, 5), (-5, -4), (('q', 'against'), ('p', 'against')))
+    >>> sprung(wide, ring, 0)
+    raises NoFit()
+    >>> two = (("s", "t", "w"), (("a", "s", "t", 10, 1), ("b", "s", "t", 40, 31), ("c", "t", "w", 3, 1), ("d", "t", "w", 5, 4)))
+    >>> fewest_drops(two), is_bad_ring(two, (("a", "along"), ("b", "against"))), lag_room((("a", "b"), ()), "a", "b")
+    (3, True, (None, None))
+'''
+
+EARLY = r'''
+    >>> fork = (("a", "d", "s"), (("p", "s", "a", 3, 3), ("q", "a", "d", 3, 3), ("r", "s", "d", 4, 1)))
+    >>> wide = (("a", "d", "s"), (("p", "s", "a", 3, 3), ("q", "a", "d", 3, 3), ("r", "s", "d", 5, 1)))
+    >>> can_be_left(fork, 9, (2, 0, 4)), can_be_left(fork, 9, (3, 1, 5)), can_be_left(fork, 9, (2, 1, 5)), can_be_left(fork, 9, (9, 9, 9))
+    (True, True, False, True)
+    >>> price(fork, 9, (2, 0, 4)), price(fork, 9, (9, 9, 9)), price(fork, 9, (2, 1, 5)), price(fork, 3, (1, 0, 3))
+    (4, 0, None, 3)
+    >>> drops_that_leave(fork, 3, (1, 0, 3))
+    (('p', 2), ('p', 3), ('q', 1))
+    >>> least_left(fork, 3), least_left(fork, 9), earliest(fork)
+    ((1, 0, 3), (2, 0, 4), (2, 0, 4))
+    >>> least_left(wide, 3), least_left(wide, 9), earliest(wide)
+    ((1, 0, 3), (7, 5, 9), (None, None, None))
+    >>> way = Way(fork, "s", ("r", "q", "p"))
+    >>> need(way), need(-way), need(Way(fork, "d", ("q", "p", "r")))
+    (4, 6, 0)
+    >>> pair = lasso(fork, "a")
+    >>> need(pair[0] + pair[1]), pair[1].is_bad(), lasso(wide, "a")
+    (2, True, None)
+    >>> behind(wide, "a"), behind(wide, "d"), behind(wide, "s"), behind(fork, "s")
+    (2, 4, 0, None)
+'''
+
+TUNE = r'''
+    >>> fork = (("a", "d", "s"), (("p", "s", "a", 3, 3), ("q", "a", "d", 3, 3), ("r", "s", "d", 4, 1)))
+    >>> wide = (("a", "d", "s"), (("p", "s", "a", 3, 3), ("q", "a", "d", 3, 3), ("r", "s", "d", 5, 1)))
+    >>> raised(fork, "r", 5, 1) == wide, limits(fork, "r"), limits(fork, "p"), limits((("a", "b"), (("p", "a", "b", 2, 1),)), "p")
+    (True, (6, 5), (2, 1), (None, 1))
+    >>> double = (("a", "d", "s"), (("p", "s", "a", 3, 3), ("q", "a", "d", 3, 3), ("r", "s", "d", 4, 1), ("t", "s", "a", 9, 1)))
+    >>> limits(double, "t"), greatest_notice(fork, "p"), greatest_notice(fork, "r"), greatest_notice(wide, "r")
+    (None, 2, None, 5)
+    >>> greatest_common(fork), greatest_common(wide), greatest_common((("i", "j"), (("a", "i", "j", 1, 1), ("b", "j", "i", 1, 1))))
+    (2, None, 0)
+    >>> slim = raised(raised(fork, "p", 3, 1), "q", 3, 1)
+    >>> filled(slim, ("p", "q", "r")) == raised(raised(fork, "q", 3, 2), "r", 4, 4), filled(slim, ("q", "p", "r")) == raised(raised(fork, "p", 3, 2), "r", 4, 4)
+    (True, True)
+    >>> full(slim), full(filled(slim, ("p", "q", "r"))), full(fork), filled(fork, ("p", "q", "r"))
+    (False, True, False, None)
+    >>> filled(fork, ("p", "q", "x"))
+    raises NoQueue(queue='x')
+    >>> sure_sets(fork), fewest_sure(fork), sure_sets(wide), sure_sets((("i", "j"), (("a", "i", "j", 1, 1), ("b", "j", "i", 1, 1))))
+    ([('p',), ('q',)], ('p',), [()], [])
+'''
+
 
 class DocumentTest(unittest.TestCase):
 
@@ -66,6 +149,18 @@ class DocumentTest(unittest.TestCase):
 
     def test_runs(self):
         self.assertEqual(check_examples(self, RUNS, NAMES), 9)
+
+    def test_reach(self):
+        self.assertEqual(check_examples(self, REACH, NAMES), 6)
+
+    def test_judge(self):
+        self.assertEqual(check_examples(self, JUDGE, NAMES), 7)
+
+    def test_early(self):
+        self.assertEqual(check_examples(self, EARLY, NAMES), 8)
+
+    def test_tune(self):
+        self.assertEqual(check_examples(self, TUNE, NAMES), 7)
 
 
 if __name__ == "__main__":

@@ -3,7 +3,7 @@
 import inspect
 import unittest
 
-from joinlags import nets, runs
+from joinlags import early, judge, nets, reach, runs, tune
 
 FUNCTIONS = {
     nets: {"is_net": "(thing)", "is_counts": "(net, thing)", "is_drops": "(net, thing)",
@@ -11,6 +11,20 @@ FUNCTIONS = {
            "rings": "(net)", "slack": "(net)"},
     runs: {"held": "(net, drops, *, deaths=())", "closes": "(net, drops, ends)",
            "stands": "(net, drops, counts)", "order_to": "(net, drops, counts)"},
+    reach: {"can_stand": "(net, counts)", "way_to": "(net, counts)", "leads_over": "(net, worker)",
+            "most_messages": "(net)", "most_counts": "(net)", "most_flow": "(net)",
+            "lead_price": "(net, worker, other, lead)", "lead_counts": "(net, worker, other, lead)",
+            "lead_flow": "(net, worker, other, lead)"},
+    judge: {"never_held": "(net)", "lags": "(net)", "shows_never": "(net, thing)", "lags_in": "(net, parts)",
+            "least_parts": "(net)", "lag_room": "(net, worker, other)", "least_way": "(net, worker, other)",
+            "bad_ring": "(net)", "cheapest_ring": "(net)", "is_bad_ring": "(net, thing)", "fewest_drops": "(net)",
+            "holding": "(net)", "sprung": "(net, ring, first)"},
+    early: {"can_be_left": "(net, many, counts)", "price": "(net, many, counts)",
+            "drops_that_leave": "(net, many, counts)", "least_left": "(net, many)", "earliest": "(net)",
+            "need": "(way)", "lasso": "(net, worker)", "behind": "(net, worker)"},
+    tune: {"raised": "(net, queue, room, notice)", "limits": "(net, queue)", "greatest_notice": "(net, queue)",
+           "greatest_common": "(net)", "full": "(net)", "filled": "(net, order)", "sure_sets": "(net)",
+           "fewest_sure": "(net)"},
 }
 CLASSES = {
     nets.Way: {"__init__": "(self, net, start, queues)", "steps": "(self)", "workers": "(self)",
