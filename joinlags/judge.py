@@ -32,7 +32,7 @@ def lags_in(net, parts):
 def shows_never(net, thing):
     """Whether thing is a tuple such as lags returns for the net."""
     parts = len(net[0])
-    if not is_row(thing, parts) or not all([is_number(lag) for lag in thing]):
+    if not is_row(thing, parts) or not all([is_number(part) for part in thing]):
         return False
     lag = {worker: thing[place] for place, worker in enumerate(net[0])}
     return all([(notice - 1) * parts < lag[start] - lag[end] < room * parts
@@ -113,7 +113,8 @@ def cheapest_ring(net):
 
 def is_step(known, thing):
     """Whether thing is a step over a queue whose NAME is a key of the dict known."""
-    if not is_row(thing, 2) or not isinstance(thing[0], str) or not isinstance(thing[1], str):
+    # A list cannot be looked up in a dict, so the kind comes first.
+    if not is_row(thing, 2) or not isinstance(thing[0], str):
         return False
     return thing[0] in known and thing[1] in ("along", "against")
 

@@ -8,7 +8,7 @@ def find_queue(net, name):
     """The QUEUE of this NAME."""
     for queue in net[1]:
         if queue[0] == name:
-            return tuple(queue)
+            return queue
     raise NoQueue(name)
 
 

@@ -279,6 +279,16 @@ class RoomTest(JudgeCase):
                     # The same fraction, written so finely that all others have room beside it.
                     self.assertIs(can_differ(net, 10 * parts, worker, other, 10 * gap), within, net)
 
+    def test_long_ways(self):
+        workers = tuple(f"w{place:02}" for place in range(40))
+        net = (workers, tuple((f"q{place:02}", workers[place], workers[place + 1], 5, 2) for place in range(39)))
+        back = (workers, tuple((name, end, start, 5, 2) for name, start, end, _, _ in net[1]))
+        for chain, room in ((net, (39, 195)), (back, (-195, -39))):
+            self.assertEqual(lag_room(chain, "w00", "w39"), room)
+            self.assertEqual(lag_room(chain, "w39", "w00"), (-room[1], -room[0]))
+            self.check_way(chain, "w00", "w39", room[1])
+            self.check_way(chain, "w39", "w00", -room[0])
+
     def test_large_nets(self):
         source = random.Random(68)
         net = calm_net(source, 40, 60, HUGE)

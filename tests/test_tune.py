@@ -230,6 +230,11 @@ class SureTest(unittest.TestCase):
         net = (("a", "b", "c"), (("p", "a", "b", 4, 3), ("q", "a", "b", 4, 3), ("r", "b", "c", 4, 4), ("s", "a", "c", 4, 1)))
         self.assertEqual((sure_sets(net), fewest_sure(net)), ([("p", "q"), ("r",)], ("r",)))
 
+    def test_ascending_and_not_as_the_queues_come(self):
+        net = (("a", "b", "c", "d"), (("p", "a", "b", 9, 3), ("q", "b", "c", 9, 3), ("r", "c", "d", 9, 3),
+                                      ("x", "a", "c", 4, 1), ("y", "b", "d", 4, 1)))
+        self.assertEqual((sure_sets(net), fewest_sure(net)), ([("p", "r"), ("q",)], ("q",)))
+
     def test_all_sets(self):
         source = random.Random(109)
         nets = small_nets(source, 60, 4, 6, 4) + [FORK, WIDE, HUGE_FORK, raised(HUGE_FORK, "p", HUGE, HUGE)]

@@ -5,9 +5,7 @@ import unittest
 
 from joinlags.errors import NoQueue, NoStep, NoWorker
 from joinlags.nets import Way, rings
-from samples import BARE, DOUBLE, FORK, HUGE, listed, random_net
-
-WIDE = (FORK[0], FORK[1][:2] + (("r", "s", "d", 5, 1),))
+from samples import BARE, DOUBLE, FORK, HUGE, WIDE, listed, random_net
 
 
 class WayTest(unittest.TestCase):
@@ -57,6 +55,10 @@ class WayTest(unittest.TestCase):
         self.assertEqual(way.steps(), (("p", "along"), ("p", "against"), ("p", "along")))
         self.assertEqual((way.workers(), way.cost()), (("s", "a", "s", "a"), 4))
         self.assertIs(Way(FORK, "s", ("p", "p")).is_ring(), False)
+
+    def test_the_costs_of_the_steps(self):
+        self.assertEqual(Way(FORK, "s", ("r", "q", "p", "p")).costs(), (4, -2, -2, 3))
+        self.assertEqual(Way(BARE, "a", ()).costs(), ())
 
     def test_contains(self):
         way = Way(FORK, "s", ("r", "q"))
