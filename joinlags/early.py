@@ -14,17 +14,17 @@ def is_high(queue, lead):
     return lead >= queue[3]
 
 
-def silences(net, many, counts):
+def silences(net, counts, going):
     """The triples of spans that must be silent at these COUNTS, as few lacking items as can be.
 
-    There is one for each worker below many at which no high queue starts: the one of the least lead
-    that ends there. None if some such worker has no low one.
+    There is one for each of the workers going, the keys of a dict, at which no high queue starts:
+    the one of the least lead that ends there. None if some such worker has no low one.
     """
     rows = spans(net, counts)
     blocked = {row[0][1]: True for row in rows if is_high(row[0], row[2])}
     found = []
-    for place, worker in enumerate(net[0]):
-        if counts[place] < many and worker not in blocked:
+    for worker in going:
+        if worker not in blocked:
             low = [row for row in rows if row[0][2] == worker and is_low(row[0], row[2])]
             if len(low) == 0:
                 return None
@@ -33,11 +33,27 @@ def silences(net, many, counts):
     return found
 
 
+def is_stop(net, counts, going):
+    """Whether some DROPS bring all workers just to these COUNTS and keep those going from more."""
+    return can_stand(net, counts) and silences(net, counts, going) is not None
+
+
+def drops_at(net, counts, going):
+    """The fewest DROPS that do what is_stop asks; there are some."""
+    drops = list(thinned(net, counts))
+    for queue, count, lead in silences(net, counts, going):
+        drops.extend([(queue[0], count + place) for place in range(1, lead + 1)])
+    return tuple(sorted(drops))
+
+
+def going_on(net, many, counts):
+    """A dict with the workers as keys that have passed fewer than many."""
+    return {worker: True for place, worker in enumerate(net[0]) if counts[place] < many}
+
+
 def can_be_left(net, many, counts):
     """Whether some DROPS leave just these COUNTS at many."""
-    if any([count > many for count in counts]) or not can_stand(net, counts):
-        return False
-    return silences(net, many, counts) is not None
+    return all([count <= many for count in counts]) and is_stop(net, counts, going_on(net, many, counts))
 
 
 def price(net, many, counts):
@@ -45,17 +61,14 @@ def price(net, many, counts):
     if not can_be_left(net, many, counts):
         return None
     crowded = sum([max(0, lead - queue[3]) for queue, _, lead in spans(net, counts)])
-    return crowded + sum([lead for _, _, lead in silences(net, many, counts)])
+    return crowded + sum([lead for _, _, lead in silences(net, counts, going_on(net, many, counts))])
 
 
 def drops_that_leave(net, many, counts):
     """DROPS of the fewest pairs that leave these COUNTS at many; None if none do."""
     if not can_be_left(net, many, counts):
         return None
-    drops = list(thinned(net, counts))
-    for queue, count, lead in silences(net, many, counts):
-        drops.extend([(queue[0], count + place) for place in range(1, lead + 1)])
-    return tuple(sorted(drops))
+    return drops_at(net, counts, going_on(net, many, counts))
 
 
 def need(way):

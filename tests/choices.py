@@ -126,3 +126,29 @@ def left_by_drops(net, many):
 def boxes(net, limit):
     """All rows of numbers from 0 to the limit, one for each worker."""
     return itertools.product(range(limit + 1), repeat=len(net[0]))
+
+
+def price_by_words(net, count, going):
+    """How many DROPS keep those going from more than the numbers in the dict count, as the document adds them up.
+
+    None if a lead cannot be or nothing stops one of them; who has the number None is left out.
+    """
+    total = 0
+    lows, highs = {}, set()
+    for _, start, end, room, notice in net[1]:
+        if count[start] is None:
+            continue
+        lead = count[start] - count[end]
+        if not 0 <= lead <= notice * (room + 1) - 1:
+            return None
+        total += max(0, lead - room)
+        if lead <= notice - 1:
+            lows.setdefault(end, []).append(lead)
+        if lead >= room:
+            highs.add(start)
+    for worker in going:
+        if worker not in highs:
+            if worker not in lows:
+                return None
+            total += min(lows[worker])
+    return total

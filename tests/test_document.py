@@ -2,10 +2,11 @@
 
 import unittest
 
-from joinlags import early, errors, judge, nets, reach, runs, tune
+from joinlags import chains, early, errors, judge, nets, reach, runs, stops, tables, tune
 from examples import check_examples
 
-NAMES = {**vars(errors), **vars(nets), **vars(runs), **vars(reach), **vars(judge), **vars(early), **vars(tune)}
+MODULES = (errors, nets, runs, reach, judge, early, tune, stops, tables, chains)
+NAMES = {name: value for module in MODULES for name, value in vars(module).items()}
 
 NETS = r'''
     >>> fork = (("a", "d", "s"), (("p", "s", "a", 3, 3), ("q", "a", "d", 3, 3), ("r", "s", "d", 4, 1)))
@@ -141,6 +142,73 @@ TUNE = r'''
     ([('p',), ('q',)], ('p',), [()], [])
 '''
 
+STOPS = r'''
+    >>> net = (("r", "s", "t"), (("p", "s", "t", 3, 3), ("q", "r", "t", 2, 1)))
+    >>> first_stops(net, (("s", 1),)), last_stops(net, (("s", 1),)), first_way(net, (("s", 1),), "r")
+    ((2, 1, 0), (3, 1, 1), (('q', 'along'), ('p', 'against')))
+    >>> stop_drops(net, (("s", 1),), (2, 1, 0)), stop_drops(net, (("s", 1),), (3, 1, 1)), can_stop(net, (("s", 1),), (2, 1, 1)), can_stop(net, (("s", 1),), (3, 1, 0))
+    ((('p', 1),), (), False, False)
+    >>> first_stops(net, (("r", 0), ("t", 4))), last_stops(net, ()), can_stop(net, (), (None, None, None)), first_way(net, (("t", 4),), "t")
+    ((0, 3, 0), (None, None, None), True, ())
+    >>> is_deaths(net, (("s", 1), ("t", 0))), is_deaths(net, (("s", 1), ("s", 2)))
+    (True, False)
+    >>> fork = (("a", "d", "s"), (("p", "s", "a", 3, 3), ("q", "a", "d", 3, 3), ("r", "s", "d", 4, 1)))
+    >>> first_stops(fork, (("d", 2),)), can_stop(fork, (), (2, 0, 4)), len(stop_drops(fork, (), (2, 0, 4)))
+    (None, True, 4)
+'''
+
+TABLES = r'''
+    >>> fork = ((("i", "j", "y"), (("p", "i", "y", 1, 1), ("q", "j", "y", 3, 3))), ("i", "j"))
+    >>> table = table_of(fork)
+    >>> is_part(fork), table.rows(), table[0, 1], len(table), needs(fork)
+    (True, ((0, -1), (3, 0)), -1, 2, (-2, 2))
+    >>> part_of(table)
+    ((('d0', 'd1'), (('q1.0', 'd1', 'd0', 3, 2),)), ('d0', 'd1'))
+    >>> back = ((("i", "j"), (("s", "j", "i", 1, 1),)), ("i", "j"))
+    >>> table_of(back).rows(), table_of((joined(fork, back), ("a.i", "a.j"))), alike(fork, part_of(table))
+    (((0, 0), (1, 0)), None, True)
+    >>> stands_for(back, fork), stands_for(fork, back), foil(back, back)
+    (False, False, None)
+    >>> wide = Table(((0, 0), (4, 0)))
+    >>> (table | wide).rows(), (table & Table(((0, 0), (2, 0)))).rows(), table.is_within(wide), table.some((1, 0)).rows()
+    (((0, 0), (4, 0)), ((0, -1), (2, 0)), True, ((0, 3), (-1, 0)))
+    >>> table & Table(((0, 5), (-2, 0)))
+    raises NoTable()
+    >>> three = Table(((0, 2, 6), (3, 0, 4), (1, -2, 0)))
+    >>> three.needed(), part_of(three)[0][0], part_of(three)[0][1]
+    (((0, 1), (1, 0), (1, 2), (2, 1)), ('d0', 'd1', 'd2', 'w0.1'), (('q0.1', 'd0', 'w0.1', 2, 1), ('q1.0', 'd1', 'w0.1', 3, 1), ('q1.2', 'd1', 'd2', 4, 3)))
+    >>> extended(fork, (0, 2), 1)[:2], extended(fork, (0, 1), 1)
+    ((0, 6), None)
+'''
+
+CHAINS = r'''
+    >>> step = ((("a", "b", "c", "d"), (("p", "b", "a", 3, 3), ("q", "d", "c", 1, 1), ("r", "a", "c", 3, 1))), ("a", "c"), ("b", "d"))
+    >>> is_link(step), is_link((step[0], ("a",), ("a",))), longest(step), settled(step), endless(step), goes_round(step)
+    (True, False, 3, None, None, False)
+    >>> chain(step, 2)
+    ((('a.0', 'b.0', 'b.1', 'c.0', 'd.0', 'd.1'), (('p.0', 'b.0', 'a.0', 3, 3), ('p.1', 'b.1', 'b.0', 3, 3), ('q.0', 'd.0', 'c.0', 1, 1), ('q.1', 'd.1', 'd.0', 1, 1), ('r.0', 'a.0', 'c.0', 3, 1), ('r.1', 'b.0', 'd.0', 3, 1))), ('a.0', 'c.0'), ('b.1', 'd.1'))
+    >>> chain_table(step, 1).rows()
+    ((0, 3, -2, 3), (0, 0, -2, 0), (3, 6, 0, 6), (1, 1, -1, 0))
+    >>> chain_table(step, 2)[0, 1], chain_table(step, 3)[0, 1], chain_table(step, 3)[0, 2], chain_table(step, 4)
+    (2, 1, -6, None)
+    >>> wide = ((step[0][0], (("p", "b", "a", 3, 3), ("q", "d", "c", 1, 1), ("r", "a", "c", 1000000000000, 1))), ("a", "c"), ("b", "d"))
+    >>> longest(wide), chain_table(wide, 1000000000000)[0, 1], chain_table(wide, 1000000000001)
+    (1000000000000, 1, None)
+    >>> calm = ((step[0][0], (("p", "b", "a", 3, 3), ("q", "d", "c", 2, 1), ("r", "a", "c", 3, 1))), ("a", "c"), ("b", "d"))
+    >>> longest(calm), settled(calm), endless(calm).rows(), even_lags(calm), goes_round(calm)
+    (None, 1, ((0, 3), (0, 0)), None, False)
+    >>> zig = ((("a", "b", "m"), (("p", "a", "m", 2, 1), ("q", "b", "m", 3, 2))), ("a",), ("b",))
+    >>> circle(zig, 2)
+    (('a.0', 'b.0', 'm.0', 'm.1'), (('p.0', 'a.0', 'm.0', 2, 1), ('p.1', 'b.0', 'm.1', 2, 1), ('q.0', 'b.0', 'm.0', 3, 2), ('q.1', 'a.0', 'm.1', 3, 2)))
+    >>> lags = even_lags(zig)
+    >>> goes_round(zig), lags[0] == lags[1], 3 < lags[0] - lags[2], lags[0] - lags[2] < 6
+    (True, True, True, True)
+    >>> glued(zig, zig)
+    ((('a.a', 'a.b', 'a.m', 'b.b', 'b.m'), (('a.p', 'a.a', 'a.m', 2, 1), ('a.q', 'a.b', 'a.m', 3, 2), ('b.p', 'a.b', 'b.m', 2, 1), ('b.q', 'b.b', 'b.m', 3, 2))), ('a.a',), ('b.b',))
+    >>> glued(zig, step)
+    raises NoFit()
+'''
+
 
 class DocumentTest(unittest.TestCase):
 
@@ -161,6 +229,15 @@ class DocumentTest(unittest.TestCase):
 
     def test_tune(self):
         self.assertEqual(check_examples(self, TUNE, NAMES), 7)
+
+    def test_stops(self):
+        self.assertEqual(check_examples(self, STOPS, NAMES), 5)
+
+    def test_tables(self):
+        self.assertEqual(check_examples(self, TABLES, NAMES), 8)
+
+    def test_chains(self):
+        self.assertEqual(check_examples(self, CHAINS, NAMES), 10)
 
 
 if __name__ == "__main__":

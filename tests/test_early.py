@@ -9,7 +9,7 @@ from joinlags.judge import never_held
 from joinlags.nets import Way, groups, idle, is_drops
 from joinlags.runs import Run, held
 from checks import check_call, check_error
-from choices import all_drops, boxes, left
+from choices import all_drops, boxes, left, price_by_words
 from ring_sums import cheapest_ways, least_need
 from samples import (ALONE, BARE, CYCLE, DOUBLE, FORK, HUGE, TWO_GROUPS, WIDE, calm_net, random_drops, sloped_net,
                      small_nets, wild_net)
@@ -42,23 +42,7 @@ def formula(net, many, counts):
     resting = idle(net)
     if max(counts) > many or any(count[worker] > 0 for worker in resting):
         return None
-    total = 0
-    lows, highs = {}, set()
-    for _, start, end, room, notice in net[1]:
-        lead = count[start] - count[end]
-        if not 0 <= lead <= notice * (room + 1) - 1:
-            return None
-        total += max(0, lead - room)
-        if lead <= notice - 1:
-            lows.setdefault(end, []).append(lead)
-        if lead >= room:
-            highs.add(start)
-    for worker in net[0]:
-        if count[worker] < many and worker not in highs:
-            if worker not in lows:
-                return None
-            total += min(lows[worker])
-    return total
+    return price_by_words(net, count, [worker for worker in net[0] if count[worker] < many])
 
 
 class LeftTest(unittest.TestCase):

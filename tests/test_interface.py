@@ -3,7 +3,7 @@
 import inspect
 import unittest
 
-from joinlags import early, judge, nets, reach, runs, tune
+from joinlags import chains, early, judge, nets, reach, runs, stops, tables, tune
 
 FUNCTIONS = {
     nets: {"is_net": "(thing)", "is_counts": "(net, thing)", "is_drops": "(net, thing)",
@@ -25,6 +25,14 @@ FUNCTIONS = {
     tune: {"raised": "(net, queue, room, notice)", "limits": "(net, queue)", "greatest_notice": "(net, queue)",
            "greatest_common": "(net)", "full": "(net)", "filled": "(net, order)", "sure_sets": "(net)",
            "fewest_sure": "(net)"},
+    stops: {"is_deaths": "(net, thing)", "can_stop": "(net, deaths, ends)", "stop_drops": "(net, deaths, ends)",
+            "first_stops": "(net, deaths)", "last_stops": "(net, deaths)", "first_way": "(net, deaths, worker)"},
+    tables: {"is_part": "(thing)", "is_table": "(thing)", "table_of": "(part)", "joined": "(part, other)",
+             "alike": "(part, other)", "stands_for": "(part, other)", "foil": "(part, other)", "part_of": "(table)",
+             "needs": "(part)", "extended": "(part, lags, scale)"},
+    chains: {"is_link": "(thing)", "chain": "(link, many)", "circle": "(link, many)", "glued": "(link, other)",
+             "chain_table": "(link, many)", "longest": "(link)", "settled": "(link)", "endless": "(link)",
+             "even_lags": "(link)", "goes_round": "(link)"},
 }
 CLASSES = {
     nets.Way: {"__init__": "(self, net, start, queues)", "steps": "(self)", "workers": "(self)",
@@ -35,6 +43,10 @@ CLASSES = {
                "passed": "(self, worker)", "messages": "(self, queue)", "__len__": "(self)",
                "__iadd__": "(self, worker)", "__contains__": "(self, worker)", "ready": "(self)",
                "settle": "(self, many)", "back": "(self)", "twin": "(self)", "__eq__": "(self, other)"},
+    tables.Table: {"__init__": "(self, rows)", "rows": "(self)", "__len__": "(self)", "__getitem__": "(self, at)",
+                   "__iter__": "(self)", "is_within": "(self, other)", "__or__": "(self, other)",
+                   "__and__": "(self, other)", "some": "(self, places)", "needed": "(self)",
+                   "__eq__": "(self, other)"},
 }
 
 
@@ -51,14 +63,16 @@ class InterfaceTest(unittest.TestCase):
     def test_classes(self):
         self.assertEqual(nets.Way.__module__, "joinlags.nets")
         self.assertEqual(runs.Run.__module__, "joinlags.runs")
+        self.assertEqual(tables.Table.__module__, "joinlags.tables")
         for found, methods in CLASSES.items():
             for name, arguments in methods.items():
                 self.assertIn(name, vars(found))
                 self.assertEqual(str(inspect.signature(vars(found)[name])), arguments, name)
 
-    def test_ways_have_no_in_place_signs(self):
-        for name in ("__iadd__", "__imul__"):
+    def test_what_does_not_change_has_no_in_place_signs(self):
+        for name in ("__iadd__", "__imul__", "__ior__", "__iand__"):
             self.assertFalse(hasattr(nets.Way, name))
+            self.assertFalse(hasattr(tables.Table, name))
 
 
 if __name__ == "__main__":
