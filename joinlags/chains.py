@@ -5,7 +5,7 @@ from math import perm
 from joinlags.errors import NoFit
 from joinlags.nets import arcs_of, is_net, least_sums
 from joinlags.shapes import is_row
-from joinlags.tables import Table, arcs_among, are_doors, closed, net_with, picked, renamed, table_of
+from joinlags.tables import arcs_among, are_doors, as_table, closed, net_with, picked, renamed, table_of
 
 
 def is_link(thing):
@@ -116,8 +116,7 @@ def link_rows(link):
 def chain_table(link, many):
     """The Table of the near and then the far doors of many copies; None if somebody can be held."""
     rows = link_rows(link)
-    found = None if rows is None else chain_rows(rows, many)
-    return None if found is None else Table(found)
+    return None if rows is None else as_table(chain_rows(rows, many))
 
 
 def steady(half):
@@ -189,7 +188,7 @@ def settled(link):
 def endless(link):
     """The Table of the near doors of chains that are long enough; None if there is none."""
     rows = endless_rows(link)
-    return None if rows is None else Table(near_rows(chain_rows(rows, steady(len(rows) // 2))))
+    return None if rows is None else as_table(near_rows(chain_rows(rows, steady(len(rows) // 2))))
 
 
 def even_lags(link):

@@ -122,6 +122,7 @@ def least_sums(arcs, first):
     """
     sums = {node: first[node] for node in first}
     last = {}
+    lowered = None
     # A row of arcs that meets no node twice is done within one round less.
     for _ in range(len(set(list(first) + [arc[1] for arc in arcs]))):
         lowered = None
@@ -144,6 +145,27 @@ def arcs_to(last, node):
         found.append(last[node])
         node = last[node][0]
     return found[::-1]
+
+
+def stepped(row, arcs):
+    """A dict from node to the pair (least sum, arcs) with one arc more than in such a dict."""
+    found = {}
+    for arc in arcs:
+        if arc[0] in row:
+            total = row[arc[0]][0] + arc[2]
+            if arc[1] not in found or total < found[arc[1]][0]:
+                found[arc[1]] = (total, row[arc[0]][1] + (arc,))
+    return found
+
+
+def shortest_ring(nodes, arcs):
+    """The arcs, as few as can be, of a ring with a sum of 0 or less; there is one."""
+    rows = {node: {node: (0, ())} for node in nodes}
+    while True:
+        rows = {node: stepped(rows[node], arcs) for node in rows}
+        for node in rows:
+            if node in rows[node] and rows[node][node][0] <= 0:
+                return rows[node][node][1]
 
 
 class Way:

@@ -1,7 +1,8 @@
-"""The shapes that values have: numbers, names, and rows of them."""
+"""The shapes that values have: numbers, names, words, and rows of them."""
 
 LETTERS = "abcdefghijklmnopqrstuvwxyz"
 SIGNS = "abcdefghijklmnopqrstuvwxyz0123456789."
+DIGITS = "0123456789"
 
 
 def is_number(thing, least=None):
@@ -16,6 +17,27 @@ def is_name(thing):
     if not isinstance(thing, str) or thing == "":
         return False
     return thing[0] in LETTERS and all([sign in SIGNS for sign in thing])
+
+
+def is_word(thing):
+    """Whether thing is a WORD, a NAME without points."""
+    return is_name(thing) and "." not in thing
+
+
+def are_words(things):
+    """Whether these are one or more different WORDs."""
+    return len(things) > 0 and all([is_word(thing) for thing in things]) and len(set(things)) == len(things)
+
+
+def number_in(text):
+    """The number that is written so in digits without leading zeros; None if none is."""
+    if text == "" or not all([sign in DIGITS for sign in text]) or text[0] == "0" and text != "0":
+        return None
+    number = 0
+    # Python's own reading of digits stops at some thousand of them.
+    for sign in text:
+        number = 10 * number + DIGITS.index(sign)
+    return number
 
 
 def is_row(thing, many):

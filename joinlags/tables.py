@@ -52,10 +52,11 @@ def is_table(thing):
     return all([is_between(thing, i, j) for i in range(len(thing)) for j in range(len(thing))])
 
 
-def closed(many, arcs):
-    """The rows of the least sums between so many places over arcs (from, to, cost); they are a TABLE.
+def closed(many, arcs, least=1):
+    """The rows of the least sums between so many places over arcs (from, to, cost).
 
-    Where there is an arc, there is one back, too. None if a ring of arcs sums up to 0 or less.
+    Where there is an arc, there is one back, too. None if a ring of arcs sums up to less than the
+    least, which is 1 or 0; with 1 the rows are a TABLE.
     """
     places = range(many)
     sums = {(i, i): 0 for i in places}
@@ -68,7 +69,7 @@ def closed(many, arcs):
                     total = sums[i, m] + sums[m, j]
                     sums[i, j] = min(total, sums.get((i, j), total))
     # A ring over two places or more has some of them twice; a sum below 0 reaches the place itself.
-    if any([sums[i, j] + sums[j, i] <= 0 if i != j else sums[i, i] < 0 for i, j in sums]):
+    if any([sums[i, j] + sums[j, i] < least if i != j else sums[i, i] < 0 for i, j in sums]):
         return None
     return tuple([tuple([sums.get((i, j)) for j in places]) for i in places])
 
@@ -158,6 +159,11 @@ def check_lengths(one, other):
     """Raise NoFit if there are not as many of the one as of the other."""
     if len(one) != len(other):
         raise NoFit()
+
+
+def as_table(rows):
+    """The Table of these rows; None for None."""
+    return None if rows is None else Table(rows)
 
 
 def table_of(part):

@@ -96,3 +96,31 @@ def random_cases(seed, many, with_deaths):
         deaths = random_deaths(source, net, 4) if with_deaths else ()
         found.append((net, random_drops(source, net, 4), deaths))
     return found
+
+
+def random_block(source, word, ahead, most_room, tame):
+    """The lines of a block; ahead is a dict from the WORDs of the blocks that it may use to their numbers of doors."""
+    workers = list("abcdefg"[:source.randint(2, 7)])
+    doors = source.sample(workers, source.choice([count for count in (1, 2, 2, 3, 4, 4, 6) if count <= len(workers)]))
+    lines = [" ".join(["block", word] + doors)]
+    for place in range(source.randint(0, 5)):
+        start, end = source.sample(workers, 2)
+        if tame:
+            start, end = max(start, end), min(start, end)
+        room = source.randint(1, most_room)
+        lines.append(f"queue q{place} {start} {end} {room} {source.randint(1, max(1, room // (3 if tame else 1)))}")
+    fitting = [other for other, many in ahead.items() if many <= len(workers)]
+    for place in range(source.randint(0, 3) if fitting else 0):
+        other = source.choice(fitting)
+        lines.append(" ".join(["use", f"u{place}", other] + source.sample(workers, ahead[other])))
+    return lines, len(doors)
+
+
+def random_nest(source, most_blocks, most_room=5):
+    """The text of a nest; in some of them all blocks have a Table."""
+    lines, ahead = [], {}
+    tame = source.random() < 0.8
+    for place in range(source.randint(1, most_blocks)):
+        more, ahead[f"b{place}"] = random_block(source, f"b{place}", ahead, most_room, tame)
+        lines += more
+    return "\n".join(lines)
