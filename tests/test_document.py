@@ -2,10 +2,11 @@
 
 import unittest
 
-from joinlags import chains, early, errors, judge, nets, reach, runs, stops, tables, tune
+from joinlags import (chains, desk, early, errors, judge, nests, nets, reach, runs, stops, tables, texts, tune,
+                      yard)
 from examples import check_examples
 
-MODULES = (errors, nets, runs, reach, judge, early, tune, stops, tables, chains)
+MODULES = (errors, nets, runs, reach, judge, early, tune, stops, tables, chains, nests, yard, texts, desk)
 NAMES = {name: value for module in MODULES for name, value in vars(module).items()}
 
 NETS = r'''
@@ -209,6 +210,88 @@ CHAINS = r'''
     raises NoFit()
 '''
 
+NESTS = r'''
+    >>> nest = Nest("block step a c b d\nqueue p b a 3 3\nqueue q d c 1 1\nqueue r a c 3 1\nblock two a c b d\nuse x step a c m n\nuse y step m n b d\nblock four a c b d\nuse x two a c m n\nuse y two m n b d")
+    >>> nest.blocks(), len(nest), "two" in nest, nest.first_held(), nest.size("four"), nest.table("four")
+    (('step', 'two', 'four'), 3, True, 'four', (10, 12), None)
+    >>> nest.unfolded("two")
+    ((('a', 'b', 'c', 'd', 'm', 'n'), (('x.p', 'm', 'a', 3, 3), ('x.q', 'n', 'c', 1, 1), ('x.r', 'a', 'c', 3, 1), ('y.p', 'b', 'm', 3, 3), ('y.q', 'd', 'n', 1, 1), ('y.r', 'm', 'n', 3, 1))), ('a', 'c', 'b', 'd'))
+    >>> nest.table("two").rows()
+    ((0, 2, -4, 1), (0, 0, -4, 0), (6, 7, 0, 6), (2, 2, -2, 0))
+    >>> len(nest.held_ring()), nest.ring_sums(), nest.way_in("two", 3, 1), nest.way_in("two", 1, 1), nest.way_in("step", 3, 2)
+    (4, (8, 6, 6), (('use', 'y', 3, 1), ('use', 'x', 3, 1)), (), None)
+    >>> nest.ring_queue(8)
+    raises NoStep(place=8)
+    >>> nest.queue_at("four", "y.x.p"), nest.row("step", 3)[0, 1], nest.longest("step"), nest.longest("two")
+    (('y.m', 'm', 3, 3), 1, 3, 1)
+    >>> gap = nest.lag("two", "m") - nest.lag("two", "a")
+    >>> 12 < gap, gap < 18, nest.lag("four", "y.m")
+    (True, True, None)
+    >>> freed = nest.changed("step", "q", 2, 1)
+    >>> freed.first_held(), freed.held_ring(), freed.longest("four"), freed.text()[35:50]
+    (None, None, None, 'queue q d c 2 1')
+    >>> nest.swapped("two", "step").table("four") == nest.table("two"), freed == nest, freed.changed("step", "q", 1, 1) == nest
+    (True, False, True)
+    >>> nest.lag("four", "x.a")
+    raises NoWorker(worker='x.a')
+    >>> Nest("block one a\nuse x one a")
+    raises BadLine(number=1)
+'''
+
+YARD = r'''
+    >>> yard = Yard((("i", "j", "y"), (("p", "i", "y", 1, 1), ("q", "j", "y", 3, 3))))
+    >>> yard["s"] = ("j", "i", 1, 1)
+    >>> yard.never_held(), yard.lags(), len(yard.ring()), yard["s"], "t" in yard, len(yard)
+    (False, None, 3, ('j', 'i', 1, 1), False, 3)
+    >>> yard["s"] = ("j", "i", 2, 1)
+    >>> told = yard.lags()
+    >>> yard["p"] = ("i", "y", 9, 1)
+    >>> yard.lags() == told, yard.ring(), yard.table(("j", "i")).rows()
+    (True, None, ((0, 2), (0, 0)))
+    >>> yard.back(), yard.small(("y",), "short"), yard.net()
+    (None, None, (('i', 'j'), (('s', 'j', 'i', 2, 1), ('short.q1.0', 'j', 'i', 3, 2))))
+    >>> yard.never_held(), yard.hire("z"), yard.hire("z"), yard.back(), yard.back(), len(yard)
+    (True, True, False, None, None, 3)
+    >>> yard["t"] = ("i", "k", 1, 1)
+    raises NoWorker(worker='k')
+    >>> yard["t"] = ("i", "j", 1, 2)
+    raises BadQueue(queue='t')
+'''
+
+TEXTS = r'''
+    >>> net = (("a", "s"), (("p", "s", "a", 3, 2), ("q", "s", "a", 4, 1)))
+    >>> net_text(net), net_in("a s\np: s > a 3 2\nq: s > a 4 1") == net, net_in("z")
+    ('a s\np: s > a 3 2\nq: s > a 4 1', True, (('z',), ()))
+    >>> net_in("a s\np: s > a 3 4")
+    raises BadLine(number=1)
+    >>> part_text((net, ("s", "a"))), part_in("doors: z\nz")
+    ('doors: s a\na s\np: s > a 3 2\nq: s > a 4 1', ((('z',), ()), ('z',)))
+    >>> part_in("doors: y\nz")
+    raises BadLine(number=2)
+    >>> drops_text((("p", 1), ("p", 2), ("p", 5), ("q", 7), ("q", 8), ("q", 9))), drops_in(net, "p: 3..4 6"), drops_in(net, "")
+    ('p: 1..2 5\nq: 7..9', (('p', 3), ('p', 4), ('p', 6)), ())
+    >>> drops_in(net, "p: 3 4")
+    raises BadLine(number=0)
+    >>> ends_text(net, (3, None)), ends_in(net, "a: -\ns: 0"), deaths_in(net, "s: 4"), steps_text((("p", "along"), ("q", "against")))
+    ('a: 3\ns: -', (None, 0), (('s', 4),), '+p -q')
+    >>> ends_in(net, "a: 2")
+    raises BadLine(number=1)
+    >>> steps_in(net, "-q +q -p"), rows_text(((0, -1, None), (3, 0, None), (None, None, 0))), rows_in("0 2\n-1 0")
+    ((('q', 'against'), ('q', 'along'), ('p', 'against')), '0 -1 .\n3 0 .\n. . 0', ((0, 2), (-1, 0)))
+    >>> rows_in("0 2\n-2 0")
+    raises BadLine(number=2)
+'''
+
+DESK = r'''
+    >>> sheet = "block step a c b d\nqueue p b a 3 3\nqueue q d c 1 1\nqueue r a c 3 1\nblock four a c b d\nuse w step a c e f\nuse x step e f g h\nuse y step g h i j\nuse z step i j b d\n"
+    >>> answers(sheet + "\ntable step\nsize four\nheld\nsums\nlongest step\nset step q 2 1\nheld\nrow step 2\nback\nback\nat 8")
+    ['0 3 -2 3; 0 0 -2 0; 3 6 0 6; 1 1 -1 0', '10 12', 'four', '8 6 6', '3', 'done', '-', '0 3 -4 1; 0 0 -4 0; 6 8 0 6; 4 4 0 0', 'done', 'refused NothingDone', 'refused NoStep']
+    >>> answers(sheet + "\nqueue four x.p\nlag four e\ntable four\nsame step four\nswap step four\nset step p 2 3")
+    ['g e 3 3', '-', 'held', 'no', 'done', 'refused BadQueue']
+    >>> answers(sheet + "\nat -1")
+    raises BadLine(number=10)
+'''
+
 
 class DocumentTest(unittest.TestCase):
 
@@ -238,6 +321,18 @@ class DocumentTest(unittest.TestCase):
 
     def test_chains(self):
         self.assertEqual(check_examples(self, CHAINS, NAMES), 10)
+
+    def test_nests(self):
+        self.assertEqual(check_examples(self, NESTS, NAMES), 11)
+
+    def test_yard(self):
+        self.assertEqual(check_examples(self, YARD, NAMES), 6)
+
+    def test_texts(self):
+        self.assertEqual(check_examples(self, TEXTS, NAMES), 10)
+
+    def test_desk(self):
+        self.assertEqual(check_examples(self, DESK, NAMES), 3)
 
 
 if __name__ == "__main__":

@@ -3,7 +3,7 @@
 import inspect
 import unittest
 
-from joinlags import chains, early, judge, nets, reach, runs, stops, tables, tune
+from joinlags import chains, desk, early, judge, nests, nets, reach, runs, stops, tables, texts, tune, yard
 
 FUNCTIONS = {
     nets: {"is_net": "(thing)", "is_counts": "(net, thing)", "is_drops": "(net, thing)",
@@ -33,6 +33,11 @@ FUNCTIONS = {
     chains: {"is_link": "(thing)", "chain": "(link, many)", "circle": "(link, many)", "glued": "(link, other)",
              "chain_table": "(link, many)", "longest": "(link)", "settled": "(link)", "endless": "(link)",
              "even_lags": "(link)", "goes_round": "(link)"},
+    texts: {"net_text": "(net)", "part_text": "(part)", "drops_text": "(drops)", "deaths_text": "(deaths)",
+            "ends_text": "(net, ends)", "steps_text": "(steps)", "rows_text": "(rows)", "net_in": "(text)",
+            "part_in": "(text)", "drops_in": "(net, text)", "deaths_in": "(net, text)", "ends_in": "(net, text)",
+            "steps_in": "(net, text)", "rows_in": "(text)"},
+    desk: {"answers": "(text)"},
 }
 CLASSES = {
     nets.Way: {"__init__": "(self, net, start, queues)", "steps": "(self)", "workers": "(self)",
@@ -47,6 +52,18 @@ CLASSES = {
                    "__iter__": "(self)", "is_within": "(self, other)", "__or__": "(self, other)",
                    "__and__": "(self, other)", "some": "(self, places)", "needed": "(self)",
                    "__eq__": "(self, other)"},
+    nests.Nest: {"__init__": "(self, text)", "text": "(self)", "blocks": "(self)", "__len__": "(self)",
+                 "__contains__": "(self, block)", "__eq__": "(self, other)", "unfolded": "(self, block)",
+                 "size": "(self, block)", "table": "(self, block)", "row": "(self, block, many)",
+                 "longest": "(self, block)", "first_held": "(self)", "held_ring": "(self)",
+                 "way_in": "(self, block, i, j)", "ring_sums": "(self)", "ring_queue": "(self, place)",
+                 "queue_at": "(self, block, path)", "lag": "(self, block, path)",
+                 "changed": "(self, block, queue, room, notice)", "swapped": "(self, block, other)"},
+    yard.Yard: {"__init__": "(self, net)", "__setitem__": "(self, queue, worth)", "__getitem__": "(self, queue)",
+                "__iter__": "(self)", "__contains__": "(self, queue)", "__len__": "(self)", "net": "(self)",
+                "drop": "(self, queue)", "hire": "(self, worker)", "never_held": "(self)", "lags": "(self)",
+                "ring": "(self)", "table": "(self, doors)", "small": "(self, inner, name)", "back": "(self)",
+                "twin": "(self)", "__eq__": "(self, other)"},
 }
 
 
@@ -64,6 +81,8 @@ class InterfaceTest(unittest.TestCase):
         self.assertEqual(nets.Way.__module__, "joinlags.nets")
         self.assertEqual(runs.Run.__module__, "joinlags.runs")
         self.assertEqual(tables.Table.__module__, "joinlags.tables")
+        self.assertEqual(nests.Nest.__module__, "joinlags.nests")
+        self.assertEqual(yard.Yard.__module__, "joinlags.yard")
         for found, methods in CLASSES.items():
             for name, arguments in methods.items():
                 self.assertIn(name, vars(found))

@@ -8,6 +8,7 @@ from joinlags.chains import chain_table, is_link, longest
 from joinlags.errors import BadLine, BadQueue, NoBlock, NoDoor, NoFit, NoQueue, NoStep, NoWorker
 from joinlags.judge import is_bad_ring, never_held, shows_never
 from joinlags.nests import Nest
+from joinlags.nets import slack
 from joinlags.tables import Table, is_part, is_table, table_of
 from checks import check_error
 from ring_sums import cost_of
@@ -403,17 +404,13 @@ class LargeTest(unittest.TestCase):
         self.assertIs(is_table(nest.row("b39", 10 ** 45).rows()), True)
 
     def test_a_ring_through_all_workers(self):
-        # The ring over all workers costs just 1, so that the lags have no room but the least.
-        names = "abcdef"
-        lines = ["block inner " + " ".join(names[:2]), "queue p a m 2 2", "queue q m b 1 1", "block outer e f",
-                 "use x inner e f", "queue r e f 9 4"]
-        for room in (3, 4, 5):
-            lines[2] = f"queue q m b {room - 1} 1"
-            nest = Nest("\n".join(lines))
-            net = nest.unfolded("outer")[0]
-            if nest.table("outer") is not None:
-                self.assertIs(shows_never(net, tuple(nest.lag("outer", worker) for worker in net[0])), True)
-        self.assertIsNotNone(nest.table("outer"))
+        # The ring over all workers costs just 1, so there is no room left between the lags.
+        nest = Nest("block inner a b\nqueue p a m 2 2\nqueue q m b 1 1\nqueue r a b 9 3\nblock outer e f\nuse x inner f e\n"
+                    "block around g h\nuse y outer h g")
+        for block in nest.blocks():
+            net = nest.unfolded(block)[0]
+            self.assertEqual((len(net[0]), slack(net)), (3, 1))
+            self.assertIs(shows_never(net, tuple(nest.lag(block, worker) for worker in net[0])), True)
 
 
 class ChangeTest(unittest.TestCase):
